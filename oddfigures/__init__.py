@@ -1,0 +1,1 @@
+"""Oddfigures: whole numbers written with any digits."""

@@ -1,0 +1,1 @@
+"""The tests of oddfigures, for python3 -m unittest."""
