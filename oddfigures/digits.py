@@ -8,10 +8,15 @@ GREATEST_BASE = 6
 EMPTY_TEXT = "."
 
 
+def is_whole(value):
+    """Tell whether any value is an integer, of whatever size."""
+    # True and False are ints for Python, but no integers here.
+    return isinstance(value, int) and not isinstance(value, bool)
+
+
 def is_integer(value, low, high):
     """Tell whether any value is an integer from low to high."""
-    # True and False are ints for Python, but no integers here.
-    return isinstance(value, int) and not isinstance(value, bool) and low <= value <= high
+    return is_whole(value) and low <= value <= high
 
 
 def is_base(value):

@@ -1,0 +1,64 @@
+"""The document's examples, word by word [33], [43], [53], [63]."""
+
+import unittest
+
+from oddfigures.counts import greatest, is_loop, least, plain_count, plain_rows, row_count
+from oddfigures.oneway import difference_paper, is_difference_paper, one_way, two_rows
+from oddfigures.places import closed_list, core, is_closed_list, is_written, steps, writing
+from oddfigures.prices import cheapest, is_cheapest, potentials, price_of
+from oddfigures.schemes import Scheme
+
+SIGNED = Scheme(2, [-1, 0, 1], bars=[(-1, -1), (-1, 1), (1, -1), (1, 1)])
+FREE = Scheme(2, [-1, 0, 1])
+
+
+class ExamplesTest(unittest.TestCase):
+    def test_places(self):
+        self.assertEqual(
+            [
+                core(SIGNED), steps(SIGNED, 7), steps(SIGNED, 7, 1), writing(SIGNED, 7), writing(SIGNED, 7, 1),
+                closed_list(SIGNED, 7),
+            ],
+            [1, [(4, -1), (3, 1)], [], (1, 0, 0, -1), None, None],
+        )
+        odd = Scheme(3, [0, 1, 5])
+        self.assertEqual(
+            [
+                is_written(odd, -1), steps(odd, -1), is_closed_list(odd, -1, [(-1, None), (-2, 5), (-1, 1)]),
+                is_closed_list(odd, -1, [(-1, None), (-2, 5)]),
+            ],
+            [False, [(-2, 5)], True, False],
+        )
+
+    def test_counts(self):
+        self.assertEqual(
+            [
+                row_count(FREE, 3), greatest(FREE, 4), least(FREE.barred([(-1, -1)]), 2), plain_count(FREE, 0),
+                plain_count(FREE, 1),
+            ],
+            [27, 15, -2, 1, None],
+        )
+        self.assertEqual(
+            [plain_rows(FREE, 3, 4), is_loop(FREE, 1, ((1,), (-1,), (-1,))), is_loop(FREE, 1, ((1,), (0,), ()))],
+            [[(1, 1), (1, -1, 1), (1, 0, -1), (1, -1, -1, 1)], True, False],
+        )
+
+    def test_one_way(self):
+        self.assertEqual(
+            [
+                one_way(FREE), sorted([len(two_rows(FREE)[0]), len(two_rows(FREE)[1])]), one_way(SIGNED),
+                two_rows(SIGNED), is_difference_paper(SIGNED, difference_paper(SIGNED)),
+            ],
+            [False, [1, 2], True, None, True],
+        )
+
+    def test_prices(self):
+        prices = {-1: 3, 0: 1, 1: 3}
+        amounts = potentials(FREE, 7, prices)
+        self.assertEqual(
+            [
+                cheapest(FREE, 7, prices), price_of(FREE, (1, 1, 1), prices),
+                is_cheapest(FREE, 7, prices, (1, 0, 0, -1), amounts), is_cheapest(FREE, 7, prices, (1, 1, 1), amounts),
+            ],
+            [(8, (1, 0, 0, -1)), 9, True, False],
+        )
