@@ -6,6 +6,8 @@ class FigureError(ValueError):
 
     def __init__(self, text):
         ValueError.__init__(self, text)
+        # What a console answers.
+        self.class_name = self.__class__.__name__
 
 
 class InvalidBase(FigureError):

@@ -23,6 +23,31 @@ def follower(scheme):
     return lambda place: places_behind(base, lefts[place[1]], place[0])
 
 
+class OpenPlaces:
+    """Tells which places of a scheme are open, and keeps what it has found out."""
+
+    def __init__(self, scheme):
+        self._follow = follower(scheme)
+        self._known = {}
+
+    def is_open(self, place):
+        """Tell whether steps, or none, lead from a place to one with the rest 0."""
+        if place not in self._known:
+            self._find_out(place)
+        return self._known[place]
+
+    def _find_out(self, start):
+        """Find out about a place, and about all that is reached from it."""
+        known = self._known
+        follow = self._follow
+        graph = graph_from([start], lambda place: [] if place in known else follow(place))
+        goals = [place for place in graph if place[0] == 0 or known.get(place, False)]
+        sources = turned(graph)
+        found = graph_from(goals, lambda place: sources[place])
+        for place in graph:
+            known[place] = place in found
+
+
 def is_end(place):
     """Tell whether a plain row may end at a place: nothing is left, and no 0 stands in front."""
     rest, right = place

@@ -6,9 +6,14 @@ from oddfigures.paths import first_rows, follower, left_digits, place_graph, pla
 from oddfigures.schemes import Scheme
 
 
+def is_scheme(value):
+    """Tell whether any value is a Scheme."""
+    return isinstance(value, Scheme)
+
+
 def check_scheme(value):
     """Raise NotScheme unless any value is a Scheme."""
-    if not isinstance(value, Scheme):
+    if not is_scheme(value):
         raise NotScheme(value)
 
 

@@ -3,13 +3,18 @@
 import inspect
 import unittest
 
-from oddfigures.errors import InvalidNumber, NotScheme
+from oddfigures.errors import InvalidNumber, NotForm, NotScheme
+from oddfigures.forms import Form
 from oddfigures.schemes import Scheme
 from tests.values import any_values
 
 
 def no_schemes():
     return [value for value in any_values() if not isinstance(value, Scheme)]
+
+
+def no_forms():
+    return [value for value in any_values() if not isinstance(value, Form)]
 
 
 def no_integers():
@@ -34,6 +39,12 @@ class Checks(unittest.TestCase):
             self.check_error(NotScheme, "value", wrong, function, wrong, *others)
             self.check_error(NotScheme, "value", wrong, function, wrong, *[None for _ in others])
             self.check_error(NotScheme, "value", wrong, function, wrong, *["" for _ in others])
+
+    def check_no_form(self, function, *others):
+        """Check NotForm, which goes before the errors of all other arguments, right or wrong."""
+        for wrong in no_forms():
+            self.check_error(NotForm, "value", wrong, function, wrong, *others)
+            self.check_error(NotForm, "value", wrong, function, wrong, *[None for _ in others])
 
     def check_no_number(self, function, scheme, *others):
         """Check InvalidNumber, which goes before the errors of the arguments behind the number."""

@@ -1,12 +1,17 @@
-"""The document's examples, word by word [33], [43], [53], [63]."""
+"""The document's examples, word by word [33], [43], [53], [63], [75], [83], [94]."""
 
 import unittest
 
 from oddfigures.counts import greatest, is_loop, least, plain_count, plain_rows, row_count
+from oddfigures.forms import Form, always_written, failing
+from oddfigures.machines import is_refuter, least_lag, refuter, table
 from oddfigures.oneway import difference_paper, is_difference_paper, one_way, two_rows
 from oddfigures.places import closed_list, core, is_closed_list, is_written, steps, writing
 from oddfigures.prices import cheapest, is_cheapest, potentials, price_of
-from oddfigures.schemes import Scheme
+from oddfigures.schemes import Scheme, plain_scheme
+from oddfigures.wholes import (
+    alike, breaking, closed_under, parting, unwritten, writes_all, writes_down, writes_up,
+)
 
 SIGNED = Scheme(2, [-1, 0, 1], bars=[(-1, -1), (-1, 1), (1, -1), (1, 1)])
 FREE = Scheme(2, [-1, 0, 1])
@@ -61,4 +66,46 @@ class ExamplesTest(unittest.TestCase):
                 is_cheapest(FREE, 7, prices, (1, 0, 0, -1), amounts), is_cheapest(FREE, 7, prices, (1, 1, 1), amounts),
             ],
             [(8, (1, 0, 0, -1)), 9, True, False],
+        )
+
+    def test_forms(self):
+        recoded = Form([(1, plain_scheme(2))], SIGNED)
+        state = recoded.after(recoded.start(), (1,))
+        self.assertEqual(
+            [state, recoded.readings(state), recoded.after(state, (1,))],
+            [((1,), (1,), ((0, 1), (1, -1))), [(0,), (1,)], ((1,), (1,), ((1, 0), (1, "end")))],
+        )
+        self.assertEqual(
+            [
+                always_written(recoded), failing(Form([(1, SIGNED)], plain_scheme(2))),
+                always_written(Form([(1, SIGNED), (-2, SIGNED)], SIGNED)),
+            ],
+            [True, ((-1,),), True],
+        )
+
+    def test_wholes(self):
+        seven = Scheme(3, [-7, 0, 1])
+        self.assertEqual(
+            [
+                writes_all(seven), unwritten(seven, "up"), writes_up(Scheme(3, [0, 1, 5])),
+                writes_all(plain_scheme(-2)), writes_down(plain_scheme(2)),
+            ],
+            [True, None, False, True, False],
+        )
+        self.assertEqual(
+            [
+                alike(seven, Scheme(3, [-1, 0, 1])), parting(plain_scheme(2), plain_scheme(-2)) < 0,
+                closed_under(seven, "plus"), breaking(seven, "minus"),
+            ],
+            [True, True, True, None],
+        )
+
+    def test_machines(self):
+        recoded = Form([(1, plain_scheme(2))], SIGNED)
+        self.assertEqual(
+            [
+                least_lag(recoded), table(recoded, 0), is_refuter(recoded, 0, refuter(recoded, 0)),
+                least_lag(Form([(2, plain_scheme(2))], plain_scheme(2))),
+            ],
+            [1, None, True, 0],
         )

@@ -1,6 +1,7 @@
 """Values for the tests: some of every kind that may be passed as any value."""
 
 from oddfigures.errors import InvalidBase, NothingToUndo
+from oddfigures.forms import Form
 from oddfigures.schemes import Scheme, plain_scheme
 
 BASES = [-6, -5, -4, -3, -2, 2, 3, 4, 5, 6]
@@ -18,6 +19,7 @@ def other_values():
     return [
         None, True, False, {}, {"a": 1}, {0: 1, 1: 0}, {-1: 0}, {(0, 1): "b", (None, ("a", 2)): []},
         plain_scheme(2), signed(), Scheme(-6, (9,)), InvalidBase(3), NothingToUndo(),
+        Form([(1, plain_scheme(2))], signed()), Form([(-2, Scheme(-3, [1])), (2, plain_scheme(3))], Scheme(3, [0])),
     ]
 
 
