@@ -133,9 +133,27 @@ def failing(form):
     return rows_read(form.terms, form.graph().readings_to(number))
 
 
-def _has_part(sets, bits):
-    """Tell whether one of the sets is among the pairs that the bits stand for."""
-    return bits in sets or any([other & ~bits == 0 for other in sets])
+def _filed(carries, items):
+    """Return the carries of items by their lasts and signs and by one of their pairs, or None if one has none open."""
+    filed = {}
+    for lasts, signs, pairs in items:
+        bits = carries.bits_of(pairs)
+        if not carries.has_open(bits):
+            return None
+        filed.setdefault((lasts, signs), {}).setdefault(carries.last_pair(bits), {})[bits] = True
+    return filed
+
+
+def _has_part(carries, sets, bits):
+    """Tell whether one of the filed sets is among the pairs that the bits stand for."""
+    for pair in carries.pairs_of(bits):
+        candidates = sets.get(pair, {})
+        if bits in candidates:
+            return True
+        for other in candidates:
+            if other & ~bits == 0:
+                return True
+    return False
 
 
 def is_paper(form, value):
@@ -146,15 +164,12 @@ def is_paper(form, value):
     if not all([is_state_like(form.terms, form.target, item) for item in value]) or value[0] != form.start():
         return False
     carries = Carries(form.target)
-    listed = {}
+    filed = _filed(carries, value)
+    if filed is None:
+        return False
     for lasts, signs, pairs in value:
-        listed.setdefault((lasts, signs), {})[carries.bits_of(pairs)] = True
-    graph = form.graph()
-    for lasts, signs in listed:
-        for bits in listed[lasts, signs]:
-            if not carries.has_open(bits):
+        bits = carries.bits_of(pairs)
+        for reading, total, later_signs in form.graph().turns(lasts, signs):
+            if not _has_part(carries, filed.get((reading, later_signs), {}), carries.behind(bits, total)):
                 return False
-            for reading, total, later_signs in graph.turns(lasts, signs):
-                if not _has_part(listed.get((reading, later_signs), {}), carries.behind(bits, total)):
-                    return False
     return True

@@ -67,7 +67,9 @@ class Game:
         return are_lasts(self._terms, lasts) and are_signs(self._terms, signs) and is_pair(self._target, (carry, right))
 
     def turns(self, spot):
-        """Return what may be read, in order: the reading, its total if one is worked off or None, a number for where.
+        """Return the readings that may follow, in order.
+
+        Each has the total of the reading that is worked off, or None, and the number of the first three items behind.
         """
         number = spot[0]
         if number not in self._turns:

@@ -112,7 +112,8 @@ def _moves_at(form, game, value, spot):
         chosen = _spot_chosen(form, game, value, spot, turn)
         if chosen is None:
             return None
-        moves.append((turn[0], None if turn[1] is None else chosen[2], chosen))
+        # As long as nothing is written, what stands right is None.
+        moves.append((turn[0], chosen[2], chosen))
     return moves
 
 

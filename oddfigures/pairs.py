@@ -1,7 +1,7 @@
 """Pairs (carry, right) of a target: what is left to be written, and what stands directly right of it."""
 
 from oddfigures.digits import GREATEST_DIGIT, is_whole
-from oddfigures.paths import OpenPlaces, follower
+from oddfigures.paths import OpenPlaces
 from oddfigures.terms import END, is_item
 
 
@@ -35,7 +35,6 @@ class Pairs:
 
     def __init__(self, target):
         self._base = target.base
-        self._follow = follower(target)
         self._places = OpenPlaces(target)
         self._behind = {}
 
@@ -43,8 +42,7 @@ class Pairs:
         """Return the pairs behind a pair: the right of each is the digit, or END, that is written."""
         if pair not in self._behind:
             total, right = pair
-            follow = self._follow
-            found = [] if right == END else list(follow(pair))
+            found = [] if right == END else self._places.behind(pair)
             if total % self._base == 0:
                 found.append((total // self._base, END))
             self._behind[pair] = found
@@ -78,11 +76,18 @@ class Carries:
             bits = bits | self._bits[pair]
         return bits
 
+    def last_pair(self, bits):
+        """Return the one of the pairs that an integer stands for, at least one, that came up last."""
+        return self._listed[bits.bit_length() - 1]
+
     def pairs_of(self, bits):
         """Return the pairs that an integer stands for, as a tuple in order."""
         if bits not in self._decoded:
-            lowest_first = f"{bits:b}"[::-1]
-            pairs = [pair for pair, bit in zip(self._listed, lowest_first) if bit == "1"]
+            pairs = []
+            left = bits
+            while left:
+                pairs.append(self.last_pair(left))
+                left = left - (1 << (left.bit_length() - 1))
             self._decoded[bits] = tuple(sorted(pairs, key=_rank))
         return self._decoded[bits]
 
@@ -100,4 +105,7 @@ class Carries:
 
     def has_open(self, bits):
         """Tell whether one of the pairs is open."""
-        return any([self._pairs.is_open(pair) for pair in self.pairs_of(bits)])
+        for pair in self.pairs_of(bits):
+            if self._pairs.is_open(pair):
+                return True
+        return False

@@ -27,8 +27,14 @@ class OpenPlaces:
     """Tells which places of a scheme are open, and keeps what it has found out."""
 
     def __init__(self, scheme):
-        self._follow = follower(scheme)
+        self._base = scheme.base
+        self._lefts = all_left_digits(scheme)
         self._known = {}
+
+    def behind(self, place):
+        """Return the places to which steps lead from a place."""
+        rest, right = place
+        return places_behind(self._base, self._lefts[right], rest)
 
     def is_open(self, place):
         """Tell whether steps, or none, lead from a place to one with the rest 0."""
@@ -39,8 +45,7 @@ class OpenPlaces:
     def _find_out(self, start):
         """Find out about a place, and about all that is reached from it."""
         known = self._known
-        follow = self._follow
-        graph = graph_from([start], lambda place: [] if place in known else follow(place))
+        graph = graph_from([start], lambda place: [] if place in known else self.behind(place))
         goals = [place for place in graph if place[0] == 0 or known.get(place, False)]
         sources = turned(graph)
         found = graph_from(goals, lambda place: sources[place])

@@ -25,7 +25,7 @@ class StateGraph:
         self._turns = {}
         first = (tuple([None for _ in terms]), tuple([1 for _ in terms]), self._carries.bits_of([(0, None)]))
         self._nodes = [first]
-        self._numbers = {first: 0}
+        self._known = {first: True}
         self._sources = [None]
         self._passed = 0
 
@@ -53,8 +53,8 @@ class StateGraph:
         """Find the nodes behind the next node whose readings were not gone through."""
         behind = self._nodes_behind(self._nodes[self._passed])
         for node in behind:
-            if node not in self._numbers:
-                self._numbers[node] = len(self._nodes)
+            if node not in self._known:
+                self._known[node] = True
                 self._nodes.append(node)
                 self._sources.append(self._passed)
         self._passed += 1
@@ -88,9 +88,9 @@ class StateGraph:
         node = (lasts, signs, self._carries.bits_of(pairs))
         if self._told(node) != value:
             return False
-        while node not in self._numbers and self._passed < len(self._nodes):
+        while node not in self._known and self._passed < len(self._nodes):
             self._pass_one()
-        return node in self._numbers
+        return node in self._known
 
     def state_behind(self, state, reading):
         """Return the state behind a reading that may follow a state."""

@@ -51,8 +51,7 @@ def are_signs(terms, value):
 
 def _items_behind(scheme, last):
     """Return the items of a term that may follow the one that was read last, in order."""
-    if last == END:
-        return [END]
+    # No digit stands left of END.
     return [digit for digit in scheme.digits if scheme.allows(digit, last)] + [END]
 
 
@@ -73,8 +72,7 @@ def may_follow(terms, lasts, value):
 
 def total_of(terms, signs, reading):
     """Return what the digits of a reading come to."""
-    items = zip(terms, signs, reading)
-    return sum([sign * factor * item for (factor, _), sign, item in items if item != END])
+    return sum([sign * factor * item for (factor, _), sign, item in zip(terms, signs, reading) if item != END])
 
 
 def signs_behind(terms, base, signs, reading):

@@ -5,6 +5,7 @@ import random
 
 from oddfigures.errors import TooMany
 from oddfigures.forms import Form, state_count
+from oddfigures.places import writing
 from oddfigures.schemes import Scheme, plain_scheme
 from tests.reference import closure, every_pair, is_open, rows_up_to, steps_from, value
 from tests.values import BASES, signed
@@ -267,3 +268,56 @@ def shows_refuter(form, lag, items):
             if other not in ranks or ranks[other] >= rank:
                 return False
     return True
+
+
+def chosen_table(chance, form, lag, most=150):
+    """A dict with all keys that it needs, whose values may be written, whether or not its positions can end.
+
+    None if it would have too many positions, or if nothing may be written at some.
+    """
+    given = {}
+    positions = [first_position(form)]
+    for position in positions:
+        for reading in readings_behind(form.terms, position[0]):
+            leads = led_to(form, lag, position, reading)
+            if not leads or len(positions) > most:
+                return None
+            written = sorted(leads, key=repr)[0] if chance.random() < 0.7 else chance.choice(list(leads))
+            if written is not None:
+                given[position, reading] = written
+            if leads[written] not in positions:
+                positions.append(leads[written])
+    return given
+
+
+def readings_of(rows):
+    """What is read of rows at each place, from the low end."""
+    longest = max(len(row) for row in rows)
+    return [tuple(row[len(row) - 1 - at] if at < len(row) else END for row in rows) for at in range(longest)]
+
+
+def front_of(form, position):
+    """What is put in front if all rows end at a position [102]."""
+    if position[4] == END:
+        return ()
+    return writing(form.target, left_at_end(form, position), position[4])
+
+
+def run(form, lag, table, rows):
+    """The track and the row that a machine writes [102]."""
+    position = first_position(form)
+    track = []
+    digits = ()
+    for reading in readings_of(rows):
+        leads = led_to(form, lag, position, reading)
+        written = None if None in leads else table[position, reading]
+        position = leads[written]
+        track.append((reading, written))
+        if written not in (None, END):
+            digits = (written,) + digits
+    return track, front_of(form, position) + digits
+
+
+def every_rows(form, length):
+    """All rows for a form with at most so many digits."""
+    return list(itertools.product(*[rows_up_to(scheme, length) for _, scheme in form.terms]))

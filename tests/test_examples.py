@@ -1,13 +1,19 @@
-"""The document's examples, word by word [33], [43], [53], [63], [75], [83], [94]."""
+"""The document's examples, word by word [33], [43], [53], [63], [75], [83], [94], [104], [113],
+[124], [133]."""
 
 import unittest
 
+from oddfigures.book import Book
+from oddfigures.console import Console
 from oddfigures.counts import greatest, is_loop, least, plain_count, plain_rows, row_count
+from oddfigures.errors import InUse
 from oddfigures.forms import Form, always_written, failing
+from oddfigures.fractions import endless_count, endless_row, fraction_of
 from oddfigures.machines import is_refuter, least_lag, refuter, table
 from oddfigures.oneway import difference_paper, is_difference_paper, one_way, two_rows
 from oddfigures.places import closed_list, core, is_closed_list, is_written, steps, writing
 from oddfigures.prices import cheapest, is_cheapest, potentials, price_of
+from oddfigures.running import Machine
 from oddfigures.schemes import Scheme, plain_scheme
 from oddfigures.wholes import (
     alike, breaking, closed_under, parting, unwritten, writes_all, writes_down, writes_up,
@@ -108,4 +114,67 @@ class ExamplesTest(unittest.TestCase):
                 least_lag(Form([(2, plain_scheme(2))], plain_scheme(2))),
             ],
             [1, None, True, 0],
+        )
+
+    def test_machines_at_work(self):
+        recoded = Form([(1, plain_scheme(2))], SIGNED)
+        machine = Machine(recoded, 1, table(recoded, 1))
+        self.assertEqual(
+            [machine([(1, 1, 1)]), list(machine.track([(1, 1, 1)])), machine([()])],
+            [(1, 0, 0, -1), [((1,), None), ((1,), -1), ((1,), 0)], ()],
+        )
+
+    def test_fractions(self):
+        plain = plain_scheme(2)
+        self.assertEqual(
+            [
+                fraction_of(plain, (), (0, 1)), endless_count(plain, 1, 3), endless_count(plain, 1, 2),
+                endless_row(Scheme(3, [0, 2]), 1, 2), endless_count(FREE, 0, 1),
+            ],
+            [(1, 3), 1, 2, None, None],
+        )
+
+    def test_books(self):
+        book = Book()
+        self.assertEqual([book.keep("plain", plain_scheme(2)), book.keep("naf", SIGNED)], [None, None])
+        self.assertEqual(
+            [
+                book.lay("a", "plain", (1, 1, 1)), book.move("a", "naf"), book.row_of("a"),
+                book.reckon("b", "naf", [(2, "a"), (-1, "a")]), book.number_of("b"),
+            ],
+            [None, None, (1, 0, 0, -1), None, 7],
+        )
+        self.assertEqual(
+            [
+                book.surely("naf", [(1, "a"), (1, "b")]), book.surely("plain", [(1, "a")]), book.writers("a"),
+                book.deeds(), book.undo(), book.entries(),
+            ],
+            [True, False, ["naf", "plain"], 5, None, ["a"]],
+        )
+        with self.assertRaises(InUse) as caught:
+            book.drop("naf")
+        self.assertEqual(caught.exception.name, "naf")
+        self.assertEqual(
+            [book.done(lambda: [book.put("c", "plain", 5), book.row_of("c")], keep=False), "c" in book],
+            [[None, (1, 0, 1)], False],
+        )
+
+    def test_a_console(self):
+        console = Console()
+        self.assertEqual(
+            console.said([
+                "scheme naf base 2; digits -1 0 1; bars -1 -1, -1 1, 1 -1, 1 1", "put a naf 7", "show a",
+                "sum b naf 2 a -1 a", "value b", "names",
+            ]),
+            ["done", "done", "1 0 0 -1", "done", "7", "a b naf"],
+        )
+        self.assertEqual(
+            console.said([
+                "all naf", "count naf 7", "write naf -3", "lay c naf 1 1", "put c plain 1", "undo", "undo", "home b",
+                "surely naf 1 a", "put a",
+            ]),
+            [
+                "yes", "1", "-1 0 1", "! InvalidRow", "! UnknownName", "done", "done", "! UnknownName",
+                "! UnknownName", "! InvalidLine",
+            ],
         )

@@ -142,6 +142,13 @@ class LimitsTest(Checks):
         self.assertIs(is_paper(form, given[:1] + wrong), False)
         self.assertIs(is_paper(form, given[:1] + wrong + wrong), False)
 
+    def test_5000_unlike_items(self):
+        form = Form([(1, Scheme(2, [0]))], Scheme(2, [-1, 0, 1]))
+        items = [((0,), (1,), ((0, 0), (1000 + number, 0))) for number in range(4998)]
+        # Behind each of them only the last one stands.
+        for last, expected in [((0, 0), True), ((1, 0), False)]:
+            self.assertIs(is_paper(form, [form.start()] + items + [((0,), (1,), (last,))]), expected)
+
     def test_not_always_written(self):
         for form in NOT_WRITTEN:
             self.assertEqual(state_count(form), 2000)

@@ -150,7 +150,9 @@ class IsPaperTest(Checks):
             is_right = all(pair[1] in (None, END, -1, 0, 1) for pair in extra[2])
             for value in (smaller + [extra], smaller[:1] + [extra] + smaller[1:]):
                 self.assertIs(is_paper(form, value), is_right and shows_always_written(form, value), extra)
-        self.assertIs(is_paper(form, smaller + [((END,), (1,), ((0, END),))]), True)
+        for sign in (1, -1, 0, 2, -2, True, None, "1", (1,)):
+            extra = ((END,), (sign,), ((0, END),))
+            self.assertIs(is_paper(form, smaller + [extra]), sign in (1, -1) and sign is not True, sign)
         self.assertIs(is_paper(form, smaller + [((END,), (1,), ((GREAT, 0),))]), True)
         self.assertIs(is_paper(form, smaller + [((END,), (1,), ((GREAT, END),))]), False)
 

@@ -170,6 +170,10 @@ class IsRefuterTest(Checks):
         ]:
             self.assertIs(is_refuter(RECODED, 0, SMALL + [(extra, 0, None)]), expected, extra)
             self.assertIs(is_refuter(RECODED, 0, [(extra, 0, None)] + SMALL), expected, extra)
+        for sign in (1, -1, 0, 2, -2, True, None, "1", (1,)):
+            extra = ((END,), (), (sign,), 5, END)
+            expected = sign in (1, -1) and sign is not True
+            self.assertIs(is_refuter(RECODED, 0, SMALL + [(extra, 0, None)]), expected, sign)
         extra = ((END,), (), (1,), 5, END)
         self.assertIs(is_refuter(RECODED, 0, SMALL + [(extra, 0, (0,))]), False)
 

@@ -8,8 +8,8 @@ from oddfigures.machines import is_table, least_lag, refuter, table
 from oddfigures.schemes import Scheme, plain_scheme
 from tests.checks import Checks
 from tests.form_reference import (
-    END, LAG_FORMS, edge_forms, first_position, led_to, mixed_forms, readings_behind, shows_table, table_positions,
-    told,
+    END, LAG_FORMS, chosen_table, edge_forms, first_position, mixed_forms, readings_behind, shows_table,
+    table_positions, told,
 )
 from tests.test_failing import form_of
 from tests.values import any_values, signed
@@ -228,28 +228,12 @@ class IsTableTest(Checks):
                 if len(form.terms) == 2 and lag:
                     continue
                 for _ in range(6):
-                    given = self.chosen(chance, form, lag)
+                    given = chosen_table(chance, form, lag)
                     if given is not None:
                         expected = shows_table(form, lag, given)
                         self.assertIs(is_table(form, lag, given), expected, (told(form), lag))
                         found[expected] += 1
         self.assertGreater(min(found.values()), 50)
-
-    def chosen(self, chance, form, lag):
-        """A dict with all keys that it needs; None if it would have too many, or nothing can be written at some."""
-        given = {}
-        positions = [first_position(form)]
-        for position in positions:
-            for reading in readings_behind(form.terms, position[0]):
-                leads = led_to(form, lag, position, reading)
-                if not leads or len(positions) > 150:
-                    return None
-                written = sorted(leads, key=repr)[0] if chance.random() < 0.7 else chance.choice(list(leads))
-                if written is not None:
-                    given[position, reading] = written
-                if leads[written] not in positions:
-                    positions.append(leads[written])
-        return given
 
     def test_any_value(self):
         for form, lag in [(RECODED, 0), (RECODED, 1), (SUM, 0), (SUM, 1)]:

@@ -1,7 +1,11 @@
 """Values for the tests: some of every kind that may be passed as any value."""
 
+from oddfigures.book import Book
+from oddfigures.console import Console
 from oddfigures.errors import InvalidBase, NothingToUndo
 from oddfigures.forms import Form
+from oddfigures.machines import table
+from oddfigures.running import Machine
 from oddfigures.schemes import Scheme, plain_scheme
 
 BASES = [-6, -5, -4, -3, -2, 2, 3, 4, 5, 6]
@@ -14,12 +18,22 @@ def signed():
     return Scheme(2, [-1, 0, 1], bars=[(-1, -1), (-1, 1), (1, -1), (1, 1)])
 
 
+def made(form, lag):
+    """A machine with the table that there is."""
+    return Machine(form, lag, table(form, lag))
+
+
+RECODING = made(Form([(1, plain_scheme(2))], signed()), 1)
+KEEPING = made(Form([(1, signed())], signed()), 0)
+
+
 def other_values():
     """Values that are neither integers, strings, lists nor tuples."""
     return [
         None, True, False, {}, {"a": 1}, {0: 1, 1: 0}, {-1: 0}, {(0, 1): "b", (None, ("a", 2)): []},
         plain_scheme(2), signed(), Scheme(-6, (9,)), InvalidBase(3), NothingToUndo(),
         Form([(1, plain_scheme(2))], signed()), Form([(-2, Scheme(-3, [1])), (2, plain_scheme(3))], Scheme(3, [0])),
+        RECODING, KEEPING, RECODING >> KEEPING, Book(), Console(),
     ]
 
 
